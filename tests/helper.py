@@ -1,0 +1,185 @@
+"""What several tests need: stories listed one by one as the document defines them,
+with nothing of the package, and tables and values to test with."""
+
+from itertools import combinations, product
+
+# Values that are none of the kinds asked for, for judges and for "wrong kind" tests.
+ODD = (None, True, False, "", "ab", 0, -1, 10 ** 900, (), ((),), (None,), (True,), ("a", 1), ((1, 2), (3,)))
+
+
+def nested(depth):
+    """A tuple in a tuple, so deep."""
+    thing = 1
+    for _ in range(depth):
+        thing = (thing,)
+    return thing
+
+
+def what_of(test, error, call, *args, **more):
+    """The what of the error of just this class that a call raises."""
+    with test.assertRaises(error) as caught:
+        call(*args, **more)
+    test.assertIs(caught.exception.__class__, error)
+    return caught.exception.what
+
+
+def replaced(things, at, thing):
+    """A tuple with another thing at one place."""
+    return things[:at] + (thing,) + things[at + 1:]
+
+
+def numbers_from(seed, least, most):
+    """Numbers from least to most, the same ones for each seed."""
+    x = seed * 104729 + 1
+    while True:
+        x = (3125 * x + 137) % 998244353
+        yield least + x % (most - least + 1)
+
+
+def table_of(seed, p, n, c, least=1):
+    """A table of c rows, the same one for each seed."""
+    told = numbers_from(seed, least, p - 1)
+    return tuple(tuple(next(told) for _ in range(n)) for _ in range(c))
+
+
+def subsets(things):
+    return [part for size in range(len(things) + 1) for part in combinations(things, size)]
+
+
+def striped(shape, row):
+    p, wide, n, table = shape[0], shape[1], shape[2], shape[6]
+    told = [tuple(sum(weights[x] * row[x][q] for x in range(n)) % p for q in range(wide)) for weights in table]
+    return tuple(told) + row
+
+
+def every_row(shape):
+    cells = list(product(range(shape[0]), repeat=shape[1]))
+    return list(product(cells, repeat=shape[2]))
+
+
+def every_pair(shape):
+    """All pairs of rows that are unlike in k cells at most."""
+    rows = every_row(shape)
+    for ahead in rows:
+        for behind in rows:
+            if sum(1 for a, b in zip(ahead, behind) if a != b) <= shape[3]:
+                yield ahead, behind
+
+
+def every_came(shape, ahead, behind):
+    many = len(shape[6])
+    changed = [many + x for x in range(shape[2]) if ahead[x] != behind[x]]
+    for of_sums in subsets(range(many)):
+        for of_cells in subsets(changed):
+            if shape[5] == 0 or of_cells == () or len(of_sums) == many:
+                yield of_sums + of_cells
+
+
+def every_story(shape):
+    for ahead, behind in every_pair(shape):
+        changes = tuple((x, behind[x]) for x in range(shape[2]) if ahead[x] != behind[x])
+        for came in every_came(shape, ahead, behind):
+            yield ahead, changes, came
+
+
+def ends_by_left(shape, lost):
+    """For each left stripe that some story leaves, the rows that are ends of all stories that leave it."""
+    full = {row: striped(shape, row) for row in every_row(shape)}
+    found = {}
+    for ahead, behind in every_pair(shape):
+        first, last = full[ahead], full[behind]
+        for came in every_came(shape, ahead, behind):
+            left = list(first)
+            for shelf in came:
+                left[shelf] = last[shelf]
+            for shelf in lost:
+                left[shelf] = None
+            left = tuple(left)
+            if left in found:
+                found[left] = found[left] & {ahead, behind}
+            else:
+                found[left] = {ahead, behind}
+    return found
+
+
+def ends_at_nought(shape, lost):
+    """For each left stripe whose kept cells are 0, of numbers alone, the pairs of ends of the stories that leave it."""
+    many, n = len(shape[6]), shape[2]
+    kept = [x for x in range(n) if many + x not in lost]
+    full = {row: striped(shape, row) for row in every_row(shape)}
+    found = {}
+    for ahead, behind in every_pair(shape):
+        if all((0,) in (ahead[x], behind[x]) for x in kept):
+            for came in every_came(shape, ahead, behind):
+                first, last = full[ahead], full[behind]
+                left = tuple(None if shelf in lost else last[shelf] if shelf in came else first[shelf]
+                             for shelf in range(many + n))
+                if all(left[many + x] == (0,) for x in kept):
+                    found.setdefault(left, set()).add(frozenset((ahead, behind)))
+    return found
+
+
+def two_apart(pairs):
+    """Whether two of these pairs of ends have no end in common."""
+    return any(not one & other for one, other in combinations(list(pairs), 2))
+
+
+def three_apart(pairs):
+    """Whether three of these pairs are each two of three rows."""
+    beside = {}
+    for pair in pairs:
+        if len(pair) == 2:
+            one, other = pair
+            beside.setdefault(one, set()).add(other)
+            beside.setdefault(other, set()).add(one)
+    return any(beside[one] & beside[other] for one in beside for other in beside[one])
+
+
+def is_safe(shape, lost):
+    return all(found for found in ends_by_left(shape, lost).values())
+
+
+def does_stand(shape):
+    shelves = len(shape[6]) + shape[2]
+    return all(is_safe(shape, lost) for lost in subsets(range(shelves)) if len(lost) <= shape[4])
+
+
+def left_of(shape, story, lost):
+    ahead, behind = both_ends(story)
+    first, last = striped(shape, ahead), striped(shape, behind)
+    return tuple(None if shelf in lost else last[shelf] if shelf in story[2] else first[shelf]
+                 for shelf in range(len(first)))
+
+
+def both_ends(story):
+    changed = dict(story[1])
+    return story[0], tuple(changed.get(x, cell) for x, cell in enumerate(story[0]))
+
+
+def is_story_of(shape, story):
+    row, changes, came = story
+    p, wide, n, k, _, manner, table = shape
+    if len(row) != n or any(len(cell) != wide or not all(0 <= number < p for number in cell) for cell in row):
+        return False
+    cells = [x for x, _ in changes]
+    if len(cells) > k or cells != sorted(set(cells)) or any(row[x] == cell for x, cell in changes):
+        return False
+    if any(len(cell) != wide or not all(0 <= number < p for number in cell) for _, cell in changes):
+        return False
+    may = list(range(len(table))) + [len(table) + x for x in cells]
+    if list(came) != sorted(set(came)) or any(shelf not in may for shelf in came):
+        return False
+    sums_came = [shelf for shelf in came if shelf < len(table)]
+    return manner == 0 or len(sums_came) == len(came) or len(sums_came) == len(table)
+
+
+def do_clash(shape, lost, stories):
+    """Whether these two or three stories leave the same with a loss, and have no end in common."""
+    if len(stories) not in (2, 3) or not all(is_story_of(shape, story) for story in stories):
+        return False
+    if len({left_of(shape, story, lost) for story in stories}) != 1:
+        return False
+    common = set(both_ends(stories[0]))
+    for story in stories:
+        common = common & set(both_ends(story))
+    return not common

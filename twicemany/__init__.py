@@ -1,0 +1,1 @@
+"""Twicemany: transactions of several cells without a log."""
