@@ -1,6 +1,8 @@
 """What several tests need: stories listed one by one as the document defines them,
 with nothing of the package, and tables and values to test with."""
 
+import unittest
+from functools import lru_cache
 from itertools import combinations, product
 
 # Values that are none of the kinds asked for, for judges and for "wrong kind" tests.
@@ -28,6 +30,11 @@ def replaced(things, at, thing):
     return things[:at] + (thing,) + things[at + 1:]
 
 
+def ones(*numbers):
+    """Cells of one number each, None for what is lost."""
+    return tuple(None if number is None else (number,) for number in numbers)
+
+
 def numbers_from(seed, least, most):
     """Numbers from least to most, the same ones for each seed."""
     x = seed * 104729 + 1
@@ -46,6 +53,7 @@ def subsets(things):
     return [part for size in range(len(things) + 1) for part in combinations(things, size)]
 
 
+@lru_cache(maxsize=100000)
 def striped(shape, row):
     p, wide, n, table = shape[0], shape[1], shape[2], shape[6]
     told = [tuple(sum(weights[x] * row[x][q] for x in range(n)) % p for q in range(wide)) for weights in table]
@@ -183,3 +191,87 @@ def do_clash(shape, lost, stories):
     for story in stories:
         common = common & set(both_ends(story))
     return not common
+
+
+def fits_of(shape, left, full):
+    """The rows of whose stripes all kept shelves have what they have; full has the stripe of each row."""
+    return [row for row, cells in full.items() if all(cell in (None, other) for cell, other in zip(left, cells))]
+
+
+def is_blind(shape, lost, full):
+    """Whether two unlike rows have stripes that are alike at all kept shelves."""
+    kept = [shelf for shelf in range(len(shape[6]) + shape[2]) if shelf not in lost]
+    return len({tuple(cells[shelf] for shelf in kept) for cells in full.values()}) < len(full)
+
+
+def ends_leaving(shape, left):
+    """The pairs of ends of all stories that leave this, cell by cell; None if there is no story."""
+    cells = list(product(range(shape[0]), repeat=shape[1]))
+    many = len(shape[6])
+    ways = [[(a, b) for a in cells for b in cells if cell is None or cell in (a, b)] for cell in left[many:]]
+    found = []
+    for way in product(*ways):
+        ahead, behind = tuple(a for a, _ in way), tuple(b for _, b in way)
+        if sum(1 for a, b in way if a != b) <= shape[3] and lies_between(shape, left, ahead, behind):
+            found.append({ahead, behind})
+    return found
+
+
+def lies_between(shape, left, ahead, behind):
+    many = len(shape[6])
+    first, last = striped(shape, ahead), striped(shape, behind)
+    if any(cell not in (None, a, b) for cell, a, b in zip(left, first, last)):
+        return False
+    came = any(cell not in (None, a) for cell, a in zip(left[many:], ahead))
+    return shape[5] == 0 or not came or all(cell in (None, b) for cell, b in zip(left[:many], last))
+
+
+def likelier_of(shape, left, rows):
+    """Which of one or two rows is told, as [23] says."""
+    many = len(shape[6])
+    rows = sorted(rows)
+    full = {row: striped(shape, row) for row in rows}
+    if shape[5] == 1:
+        for part in (slice(many, None), slice(0, many)):
+            agree = [row for row in rows if all(c in (None, d) for c, d in zip(left[part], full[row][part]))]
+            if agree:
+                return agree[0]
+    return max(rows, key=lambda row: sum(c == d for c, d in zip(left, full[row])))
+
+
+def come_from(shape, seed, many):
+    """Some stories of a shape, the same ones for each seed."""
+    told = numbers_from(seed, 0, 10 ** 8)
+    p, wide, n, k, _, manner, table = shape
+    for _ in range(many):
+        row = tuple(tuple(next(told) % p for _ in range(wide)) for _ in range(n))
+        cells = sorted({next(told) % n for _ in range(next(told) % (k + 1))})
+        changes = [(x, tuple(next(told) % p for _ in range(wide))) for x in cells]
+        changes = tuple((x, cell) for x, cell in changes if cell != row[x])
+        sums = [j for j in range(len(table)) if next(told) % 2]
+        came = [len(table) + x for x, _ in changes if next(told) % 2]
+        if manner == 1 and came:
+            sums = range(len(table))
+        yield row, changes, tuple(sums) + tuple(came)
+
+
+def put_row(rack, row, cells):
+    """Write the stripe of these cells."""
+    for shelf, cell in enumerate(striped(rack.shape, cells)):
+        rack.put(row, shelf, cell)
+
+
+def seen(rack):
+    """All that a rack tells."""
+    shelves = range(len(rack.shape[6]) + rack.shape[2])
+    cells = [[rack.cell(row, shelf) for shelf in shelves] for row in range(rack.rows)]
+    return rack.states(), cells, [rack.left(row) for row in range(rack.rows)], rack.shape, rack.rows
+
+
+class Refusing(unittest.TestCase):
+    def refused(self, rack, error, call, *args):
+        """The what of an error that a call raises; the rack stays as it is."""
+        ahead = seen(rack)
+        what = what_of(self, error, call, *args)
+        self.assertEqual(seen(rack), ahead)
+        return what

@@ -1,6 +1,6 @@
 import unittest
 
-from helper import every_row, nested, replaced, striped, table_of, what_of
+from helper import every_row, nested, ones, replaced, striped, table_of, what_of
 from twicemany.errors import BadLeft, BadRow, BadShape
 from twicemany.rows import lost_of, made_left, made_row, stripe, sums
 
@@ -8,10 +8,6 @@ SHAPE = (7, 1, 2, 2, 0, 0, ((6, 2), (5, 6), (3, 4)))
 WIDE = (5, 3, 2, 1, 0, 0, ((1, 2), (3, 4), (0, 0)))
 NO_SUMS = (7, 2, 3, 2, 0, 0, ())
 NO_CELLS = (None, True, 3, "", "ab", (), (1, 1), (None,), (True,), ("1",), (7,), (-1,), ((1,),), (10 ** 900,), [1])
-
-
-def ones(*numbers):
-    return tuple(None if number is None else (number,) for number in numbers)
 
 
 class Rows(unittest.TestCase):

@@ -68,12 +68,20 @@ def shelves_of(shape):
 def made_left(shape, thing):
     """Thing as a left stripe of the shape."""
     made_shape(shape)
+    fault = left_fault(shape, thing)
+    if fault is not None:
+        raise BadLeft(fault)
+    return thing
+
+
+def left_fault(shape, thing):
+    """What BadLeft tells of thing, or None of a left stripe."""
     if not tuple_of(thing, shelves_of(shape)):
-        raise BadLeft(-1)
+        return -1
     for shelf, cell in enumerate(thing):
         if cell is not None and not cell_fits(shape, cell):
-            raise BadLeft(shelf)
-    return thing
+            return shelf
+    return None
 
 
 def lost_of(left):

@@ -1,0 +1,17 @@
+"""Where a house has what lies in its bank: the marks of a deal that is being done, and the records ([38])."""
+
+# The cell of each row of a schema that is its MARK.
+MARK = 0
+# The row of the rack without records, and its cell PLACE.
+HEAD = 0
+PLACE = 0
+
+
+def rack_rows(schema):
+    """The rows of the rack that have rows of the schema."""
+    return list(range(1, len(schema) + 1))
+
+
+def spots(schema):
+    """For each record, by index, the row of the rack and the cell in which it lies."""
+    return [(i + 1, place + 1) for i, row in enumerate(schema) for place in range(len(row))]
