@@ -1,9 +1,13 @@
-"""What several tests need: stories listed one by one as the document defines them,
-with nothing of the package, and tables and values to test with."""
+"""What several tests need: stories listed one by one and deals read plainly, as the document
+defines them, with nothing of the package but its errors; and tables, banks, books and values to test with."""
 
 import unittest
 from functools import lru_cache
 from itertools import combinations, product
+
+from twicemany.banks import Bank
+from twicemany.errors import BadWorth, Broken, Needed
+from twicemany.racks import Rack
 
 # Values that are none of the kinds asked for, for judges and for "wrong kind" tests.
 ODD = (None, True, False, "", "ab", 0, -1, 10 ** 900, (), ((),), (None,), (True,), ("a", 1), ((1, 2), (3,)))
@@ -275,3 +279,165 @@ class Refusing(unittest.TestCase):
         what = what_of(self, error, call, *args)
         self.assertEqual(seen(rack), ahead)
         return what
+
+
+def plain_bank(rows=16, cells=8, most=3, p=1009, wide=1):
+    """A bank for what asks only how great it is; its shape does not stand."""
+    return Bank(Rack((p, wide, cells, most, 0, 0, table_of(1, p, cells, 2)), rows))
+
+
+class Draw:
+    """Drawn numbers and things, the same ones for each seed."""
+
+    def __init__(self, seed):
+        self.numbers = numbers_from(seed, 0, 10 ** 8)
+
+    def below(self, many):
+        return next(self.numbers) % many
+
+    def of(self, things):
+        return things[self.below(len(things))]
+
+    def part(self, things):
+        return tuple(index for index in range(len(things)) if self.below(2))
+
+
+def deepened(word, leaf, deep):
+    """A number or a test that is so deep, on its left side alone."""
+    thing = leaf
+    for _ in range(deep - 1):
+        thing = (word, thing) if word == "not" else (word, thing, leaf)
+    return thing
+
+
+def nested_ifs(test, deep):
+    """The body of a deal in which a body lies so deep, an empty one."""
+    body = ()
+    for _ in range(deep - 1):
+        body = (("if", test, body, ()),)
+    return body
+
+
+def drawn_number(draw, names, deep):
+    """An E of these names: RECs, and params that are numbers."""
+    recs, nums = names
+    way = draw.below(7 if deep > 1 else 4)
+    if way == 0 or (way == 1 and not nums):
+        return ("num", draw.of((0, 1, 2, 3, 10, 50)))
+    if way == 1:
+        return ("arg", draw.of(nums))
+    if way < 4:
+        return ("worth", draw.of(recs))
+    return (draw.of(("add", "add", "sub", "mul")), drawn_number(draw, names, deep - 1),
+            drawn_number(draw, names, deep - 1 - draw.below(deep - 1)))
+
+
+def drawn_test(draw, names, deep):
+    """A T of these names."""
+    if deep == 1 or draw.below(2):
+        return (draw.of(("eq", "less")), drawn_number(draw, names, 3), drawn_number(draw, names, 2))
+    word = draw.of(("and", "or", "not"))
+    parts = [drawn_test(draw, names, deep - 1) for _ in range(1 if word == "not" else 2)]
+    return (word,) + tuple(parts)
+
+
+def drawn_body(draw, names, ahead, deep):
+    """A body that lies so deep, with calls of the deals ahead."""
+    return tuple(drawn_statement(draw, names, ahead, deep) for _ in range(draw.below(4) + (deep == 1)))
+
+
+def drawn_statement(draw, names, ahead, deep):
+    way = draw.below(8)
+    if way == 0:
+        # Seldom not so.
+        return ("need", ("not", ("eq", drawn_number(draw, names, 2), ("num", 7))), draw.of(("short", "a", "no")))
+    if way in (1, 2) and deep < 5:
+        return ("if", drawn_test(draw, names, 3), drawn_body(draw, names, ahead, deep + 1),
+                drawn_body(draw, names, ahead, deep + 1))
+    if way in (3, 4) and ahead:
+        name, params, _ = draw.of(ahead)
+        args = [draw.of(names[0]) if sort == "rec" else drawn_number(draw, names, 2) for _, sort in params]
+        return ("call", name, tuple(args))
+    return ("set", draw.of(names[0]), drawn_number(draw, names, 3))
+
+
+def drawn_deal(draw, schema, ahead, name):
+    sorts = [draw.of(("rec", "num")) for _ in range(draw.below(5))]
+    params = tuple(("p" + str(at), sort) for at, sort in enumerate(sorts))
+    recs = [("rec", record) for row in schema for record, _ in row] + [("arg", p) for p, sort in params if sort == "rec"]
+    names = (recs, [param for param, sort in params if sort == "num"])
+    return (name, params, drawn_body(draw, names, ahead, 1))
+
+
+def drawn_book(seed, schema, deals, keeps):
+    """A book of so many deals and keeps; a deal of it may be too long."""
+    draw = Draw(seed)
+    found = ()
+    for at in range(deals):
+        found += (drawn_deal(draw, schema, found, "d" + str(at)),)
+    names = ([("rec", record) for row in schema for record, _ in row], [])
+    return schema, found, tuple(("not", drawn_test(draw, names, 2)) for _ in range(keeps))
+
+
+def drawn_args(draw, schema, params, top):
+    records = [record for row in schema for record, _ in row]
+    return tuple(draw.of(records) if sort == "rec" else draw.of((0, 1, 2, 5, 20, top)) for _, sort in params)
+
+
+class PlainCall:
+    """A call of a deal, done as its bodies say, one statement behind another; args are looked at where they stand."""
+
+    def __init__(self, book, worths, deal, args):
+        self.schema, deals, self.keeps = book
+        self.deals = {name: (params, body) for name, params, body in deals}
+        self.records = [record for row in self.schema for record in row]
+        self.indexes = {name: index for index, (name, _) in enumerate(self.records)}
+        self.worths = list(worths)
+        self.sets = []
+        params, body = self.deals[deal]
+        self.body(body, {name: (("rec" if sort == "rec" else "num", arg), {}) for (name, sort), arg in zip(params, args)})
+        for index, keep in enumerate(self.keeps):
+            if not self.holds(keep, {}):
+                raise Broken(index)
+
+    def body(self, body, given):
+        for statement in body:
+            if statement[0] == "need":
+                if not self.holds(statement[1], given):
+                    raise Needed(statement[2])
+            elif statement[0] == "set":
+                self.set(self.record(statement[1], given), self.number(statement[2], given))
+            elif statement[0] == "if":
+                self.body(statement[2 if self.holds(statement[1], given) else 3], given)
+            else:
+                params, body_called = self.deals[statement[1]]
+                self.body(body_called, {name: (arg, given) for (name, _), arg in zip(params, statement[2])})
+
+    def set(self, record, number):
+        name, size = self.records[record]
+        if number < 0 or number >= size:
+            raise BadWorth(name)
+        self.worths[record] = number
+        self.sets.append((record, number))
+
+    def record(self, rec, given):
+        while rec[0] == "arg":
+            rec, given = given[rec[1]]
+        return self.indexes[rec[1]]
+
+    def number(self, thing, given):
+        if thing[0] == "num":
+            return thing[1]
+        if thing[0] == "arg":
+            return self.number(*given[thing[1]])
+        if thing[0] == "worth":
+            return self.worths[self.record(thing[1], given)]
+        one, other = self.number(thing[1], given), self.number(thing[2], given)
+        return {"add": one + other, "sub": one - other, "mul": one * other}[thing[0]]
+
+    def holds(self, thing, given):
+        if thing[0] in ("eq", "less"):
+            one, other = self.number(thing[1], given), self.number(thing[2], given)
+            return one == other if thing[0] == "eq" else one < other
+        parts = [self.holds(part, given) for part in thing[1:]]
+        return {"not": not parts[0], "and": all(parts), "or": any(parts)}[thing[0]]

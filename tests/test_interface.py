@@ -5,6 +5,8 @@ import inspect
 import unittest
 
 from twicemany.banks import Bank
+from twicemany.dealing import House
+from twicemany.desk import Desk
 from twicemany.racks import Rack
 
 INTERFACE = {
@@ -38,6 +40,24 @@ INTERFACE = {
         "made_worths": ("schema", "worths"), "worths_of": ("bank", "schema"), "do_steps": ("bank", "steps"),
         "lay": ("bank", "schema", "worths"),
     },
+    "checker": {"made_book": ("bank", "thing")},
+    "dealcodes": {
+        "code": ("bank", "book", "deal"), "most": ("bank", "book", "deal"), "reach": ("bank", "book", "deal"),
+        "kind": ("bank", "book", "deal"),
+    },
+    "calls": {
+        "call": ("bank", "book", "worths", "deal", "args"), "way": ("bank", "book", "worths", "deal", "args"),
+    },
+    "dealing": {"steps": ("bank", "book", "deal", "args"), "rest": ("bank", "book")},
+    "audits": {"audit": ("book", "worths", "question")},
+    "bookreader": {
+        "read_schema": ("bank", "text"), "read_deal": ("bank", "book", "text"), "read_keep": ("bank", "book", "text"),
+        "read_book": ("bank", "texts"),
+    },
+    "printer": {
+        "print_schema": ("bank", "schema"), "print_deal": ("bank", "book", "index"),
+        "print_keep": ("bank", "book", "index"), "print_book": ("bank", "book"),
+    },
 }
 CLASSES = {
     "racks": {"Rack": {
@@ -48,9 +68,14 @@ CLASSES = {
         "__init__": ("rack",), "row": ("r",), "changed": ("r", "changes"), "mended": (), "do": ("code",),
         "stop": ("code", "many", "came"),
     }},
+    "dealing": {"House": {"__init__": ("bank", "book")}},
+    "desk": {"Desk": {
+        "__init__": ("house",), "do": ("hand", "deal", "args"), "undo": ("hand",), "redo": ("hand",), "worths": (),
+        "ask": ("question",), "row": ("text",),
+    }},
 }
 # Files of which the interface says only that they are there.
-FILES = ("errors", "deals")
+FILES = ("errors", "deals", "openings")
 
 SHAPE = (7, 1, 2, 2, 0, 0, ((6, 2), (5, 6), (3, 4)))
 ROW = ((1,), (2,))
@@ -59,6 +84,9 @@ LEFT = ((0,), (3,), (4,), (3,), (2,))
 CODE = (((0, 0, (1,)), (0, 4, (2,))),)
 LOSSY = (257, 1, 3, 2, 1, 0, ((1, 2, 3), (4, 5, 6), (7, 8, 10)))
 SCHEMA = ((("ann", 100), ("bob", 100)), (("shop", 100),))
+GIVE = ("give", (("a", "rec"),), (("set", ("arg", "a"), ("num", 7)),))
+BOOK = (SCHEMA, (GIVE,), (("less", ("worth", ("rec", "bob")), ("num", 9)),))
+TEXTS = ("row ann 100", "deal t(num n) { ann := n }", "keep ann < 9")
 
 
 def rack_of():
@@ -102,6 +130,24 @@ BY_NAME = (
     ("houses", "worths_of", {"schema": SCHEMA, "bank": bank_of()}),
     ("houses", "do_steps", {"steps": ((1, ((1, 5),)),), "bank": bank_of()}),
     ("houses", "lay", {"worths": (5, 0, 0), "schema": SCHEMA, "bank": bank_of()}),
+    ("checker", "made_book", {"thing": BOOK, "bank": bank_of()}),
+    ("dealcodes", "code", {"deal": "give", "book": BOOK, "bank": bank_of()}),
+    ("dealcodes", "most", {"deal": "give", "book": BOOK, "bank": bank_of()}),
+    ("dealcodes", "reach", {"deal": "give", "book": BOOK, "bank": bank_of()}),
+    ("dealcodes", "kind", {"deal": "give", "book": BOOK, "bank": bank_of()}),
+    ("calls", "call", {"args": ("ann",), "deal": "give", "worths": (5, 0, 0), "book": BOOK, "bank": bank_of()}),
+    ("calls", "way", {"args": ("ann",), "deal": "give", "worths": (5, 0, 0), "book": BOOK, "bank": bank_of()}),
+    ("dealing", "steps", {"args": ("ann",), "deal": "give", "book": BOOK, "bank": bank_of()}),
+    ("dealing", "rest", {"book": BOOK, "bank": bank_of()}),
+    ("audits", "audit", {"question": ("keeps",), "worths": (5, 9, 0), "book": BOOK}),
+    ("bookreader", "read_schema", {"text": "row ann 100", "bank": bank_of()}),
+    ("bookreader", "read_deal", {"text": "deal t() { ann := 1 }", "book": BOOK, "bank": bank_of()}),
+    ("bookreader", "read_keep", {"text": "keep ann < 9", "book": BOOK, "bank": bank_of()}),
+    ("bookreader", "read_book", {"texts": TEXTS, "bank": bank_of()}),
+    ("printer", "print_schema", {"schema": SCHEMA, "bank": bank_of()}),
+    ("printer", "print_deal", {"index": 0, "book": BOOK, "bank": bank_of()}),
+    ("printer", "print_keep", {"index": 0, "book": BOOK, "bank": bank_of()}),
+    ("printer", "print_book", {"book": BOOK, "bank": bank_of()}),
 )
 
 
@@ -149,6 +195,18 @@ class Interface(unittest.TestCase):
         bank.do(code=code)
         self.assertEqual(bank.row(r=1), ((3,), (0,), (0,)))
         self.assertEqual(bank.mended(), ())
+
+    def test_houses_and_desks_by_name(self):
+        bank = bank_of()
+        house = House(book=BOOK, bank=bank)
+        self.assertEqual((house.bank, house.book), (bank, BOOK))
+        desk = Desk(house=house)
+        self.assertIs(desk.do(args=("ann",), deal="give", hand="tom"), True)
+        self.assertIsNone(desk.undo(hand="tom"))
+        self.assertIsNone(desk.redo(hand="tom"))
+        self.assertEqual(desk.worths(), (7, 0, 0))
+        self.assertEqual(desk.ask(question=("sum", (0,))), 7)
+        self.assertEqual(desk.row(text="show ann"), "7")
 
     def test_files(self):
         for file in FILES:

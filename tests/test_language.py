@@ -37,7 +37,7 @@ def bound_in(tree):
             found.add(node.arg)
         elif isinstance(node, (ast.FunctionDef, ast.ClassDef)):
             found.add(node.name)
-        elif isinstance(node, ast.alias):
+        elif isinstance(node, ast.alias) or isinstance(node, ast.ExceptHandler) and node.name:
             found.add(node.name)
     return found
 

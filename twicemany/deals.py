@@ -2,9 +2,11 @@
 
 # The cell of each row of a schema that is its MARK.
 MARK = 0
-# The row of the rack without records, and its cell PLACE.
+# The row of the rack without records, its cells PLACE and DEAL, and the first one of ARGS.
 HEAD = 0
 PLACE = 0
+DEAL = 1
+ARGS = 2
 
 
 def rack_rows(schema):
@@ -15,3 +17,13 @@ def rack_rows(schema):
 def spots(schema):
     """For each record, by index, the row of the rack and the cell in which it lies."""
     return [(i + 1, place + 1) for i, row in enumerate(schema) for place in range(len(row))]
+
+
+def records_of(schema):
+    """The name and the size of each record, by index."""
+    return [record for row in schema for record in row]
+
+
+def indexes_of(schema):
+    """The index of each record, by name."""
+    return {name: index for index, (name, _) in enumerate(records_of(schema))}

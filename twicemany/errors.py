@@ -6,6 +6,8 @@ class Refused(ValueError):
 
     def __init__(self, what):
         self.what = what
+        # A desk answers with it.
+        self.name = self.__class__.__name__
 
 
 class BadShape(Refused):

@@ -18,7 +18,7 @@ def made_schema(bank, thing):
         raise BadSchema(-1)
     names = {}
     for index, row in enumerate(thing):
-        if index >= min(bank.rows - 1, MOST_ROWS) or not row_fits(bank, row, names):
+        if index >= most_rows(bank) or not row_fits(bank, row, names):
             raise BadSchema(index)
         for name, _ in row:
             names[name] = True
@@ -30,9 +30,19 @@ def bank_fits(bank):
     return bank.most >= 2 and bank.top >= 256 and bank.cells >= 3
 
 
+def most_rows(bank):
+    """How many rows a schema may have on a bank."""
+    return min(bank.rows - 1, MOST_ROWS)
+
+
+def most_records(bank):
+    """How many records a row of a schema may have on a bank."""
+    return min(bank.cells - 1, MOST_RECORDS)
+
+
 def row_fits(bank, row, names):
     """Whether row is a row of a schema, with none of the names that are taken and no name twice."""
-    if not isinstance(row, tuple) or not 1 <= len(row) <= min(bank.cells - 1, MOST_RECORDS):
+    if not isinstance(row, tuple) or not 1 <= len(row) <= most_records(bank):
         return False
     if not all([record_fits(bank, pair) for pair in row]):
         return False
