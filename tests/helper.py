@@ -364,7 +364,8 @@ def drawn_statement(draw, names, ahead, deep):
 def drawn_deal(draw, schema, ahead, name):
     sorts = [draw.of(("rec", "num")) for _ in range(draw.below(5))]
     params = tuple(("p" + str(at), sort) for at, sort in enumerate(sorts))
-    recs = [("rec", record) for row in schema for record, _ in row] + [("arg", p) for p, sort in params if sort == "rec"]
+    recs = [("rec", record) for row in schema for record, _ in row] + [("arg", p) for p,
+                                                                       sort in params if sort == "rec"]
     names = (recs, [param for param, sort in params if sort == "num"])
     return (name, params, drawn_body(draw, names, ahead, 1))
 
@@ -395,7 +396,8 @@ class PlainCall:
         self.worths = list(worths)
         self.sets = []
         params, body = self.deals[deal]
-        self.body(body, {name: (("rec" if sort == "rec" else "num", arg), {}) for (name, sort), arg in zip(params, args)})
+        self.body(body,
+                  {name: (("rec" if sort == "rec" else "num", arg), {}) for (name, sort), arg in zip(params, args)})
         for index, keep in enumerate(self.keeps):
             if not self.holds(keep, {}):
                 raise Broken(index)

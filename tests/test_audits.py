@@ -41,11 +41,16 @@ class Audits(unittest.TestCase):
         self.assertEqual(audit(BOOK, (99, 99, 99), ("keeps",)), ())
 
     def test_what_is_no_question(self):
-        wrong = ODD + (nested(40), "keeps", ("keeps", ()), ("keeps", (0,)), ("sum",), ("sum", ()), ("sum", 0), ("sum", (0, 0)),
-                       ("sum", (1, 0)), ("sum", (2,)), ("sum", (-1,)), ("sum", (0, 1, 2)), ("sum", (True,)), ("sum", (0,), (1,)),
-                       ("sum", [0]), ["sum", (0,)], ("least", None), ("most", ("0",)), ("above", (0,)), ("above", 1, ()),
-                       ("above", True, (0,)), ("above", None, (0,)), ("above", "1", (0,)), ("above", 1, (2,)), ("above", 1, 0),
-                       ("below", 1, (0,)), ("add", (0,)), (None, (0,)), ("above", (0,), 1), ("sum", 1, (0,)), (("sum",), (0,)))
+        wrong = ODD + (nested(40), "keeps", ("keeps", ()), ("keeps", (0,)), ("sum",), ("sum", ()), ("sum", 0),
+                       ("sum", (0, 0)),
+                       ("sum", (1, 0)), ("sum", (2,)), ("sum", (-1,)), ("sum", (0, 1, 2)), ("sum", (True,)),
+                       ("sum", (0,), (1,)),
+                       ("sum", [0]), ["sum", (0,)], ("least", None), ("most", ("0",)), ("above", (0,)),
+                       ("above", 1, ()),
+                       ("above", True, (0,)), ("above", None, (0,)), ("above", "1", (0,)), ("above", 1, (2,)),
+                       ("above", 1, 0),
+                       ("below", 1, (0,)), ("add", (0,)), (None, (0,)), ("above", (0,), 1), ("sum", 1, (0,)),
+                       (("sum",), (0,)))
         for question in wrong:
             self.assertEqual(what_of(self, BadQuestion, audit, BOOK, (5, 0, 0), question), -1, question)
 
@@ -65,7 +70,8 @@ class Audits(unittest.TestCase):
             for index, keep in enumerate(book[2]):
                 alone = (schema, (), (keep,))
                 self.assertEqual(audit(alone, worths, ("keeps",)), (0,) if index in broken else ())
-                self.assertEqual(audit((schema, (), (("not", keep),)), worths, ("keeps",)), () if index in broken else (0,))
+                self.assertEqual(audit((schema, (), (("not", keep),)), worths, ("keeps",)),
+                                 () if index in broken else (0,))
             rows = draw.part("abc") or (1,)
             numbers = [number for home, number in zip(homes, worths) if home in rows]
             told = [audit(book, worths, (word, rows)) for word in ("sum", "least", "most")]

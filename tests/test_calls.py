@@ -6,7 +6,8 @@ from helper import ODD, Draw, PlainCall, drawn_args, drawn_book, plain_bank, rep
 from twicemany.calls import call, way
 from twicemany.checker import made_book
 from twicemany.dealcodes import code, most
-from twicemany.errors import (BadArgs, BadBook, BadDeal, BadKeep, BadSchema, BadWorth, BadWorths, Broken, Needed, NoDeal, Refused,
+from twicemany.errors import (BadArgs, BadBook, BadDeal, BadKeep, BadSchema, BadWorth, BadWorths, Broken, Needed,
+                              NoDeal, Refused,
                               TooLong)
 
 SCHEMA = ((("ann", 100), ("bob", 100)), (("shop", 100),))
@@ -54,7 +55,8 @@ class Calls(Calling):
         self.assertEqual(way(self.bank, book, (5, 0, 0), "pay", ("ann", "ann", 3)), (1, 2))
         kept = self.book(PAY, keeps=(("less", worth(BOB), num(3)),))
         for asked in BOTH:
-            self.assertEqual(what_of(self, Needed, asked, self.bank, book, (5, 0, 0), "pay", ("ann", "bob", 9)), "short")
+            self.assertEqual(what_of(self, Needed, asked, self.bank, book, (5, 0, 0), "pay", ("ann", "bob", 9)),
+                             "short")
             self.assertEqual(what_of(self, Broken, asked, self.bank, kept, (5, 0, 0), "pay", ("ann", "bob", 3)), 0)
 
     def test_the_example_of_twice(self):
@@ -67,16 +69,19 @@ class Calls(Calling):
 
     def test_nothing_is_set(self):
         self.assertEqual(self.done((), (5, 6, 7)), ((5, 6, 7), ()))
-        self.assertEqual(self.done((("if", ("eq", num(1), num(2)), (("set", ANN, num(1)),), ()),), (5, 6, 7)), ((5, 6, 7), ()))
+        self.assertEqual(self.done((("if", ("eq", num(1), num(2)), (("set", ANN, num(1)),), ()),), (5, 6, 7)),
+                         ((5, 6, 7), ()))
 
     def test_branches_and_jumps(self):
-        body = (("if", ("less", worth(ANN), num(5)), (("set", BOB, num(1)),), (("set", BOB, num(2)), ("set", ANN, num(9)))),
+        body = (("if", ("less", worth(ANN), num(5)), (("set", BOB, num(1)),),
+                 (("set", BOB, num(2)), ("set", ANN, num(9)))),
                 ("set", SHOP, worth(BOB)))
         self.assertEqual(self.done(body, (4, 0, 0)), ((4, 1, 1), (1, 5)))
         self.assertEqual(self.done(body, (5, 0, 0)), ((9, 2, 2), (3, 4, 5)))
 
     def test_a_record_has_the_number_that_it_has_then(self):
-        body = (("set", ANN, ("add", worth(ANN), num(1))), ("set", BOB, worth(ANN)), ("set", ANN, ("mul", worth(BOB), worth(ANN))))
+        body = (("set", ANN, ("add", worth(ANN), num(1))), ("set", BOB, worth(ANN)),
+                ("set", ANN, ("mul", worth(BOB), worth(ANN))))
         self.assertEqual(self.done(body, (3, 50, 0)), ((16, 4, 0), (0, 1, 2)))
         # Two args may be one record.
         params = (("a", "rec"), ("b", "rec"))
@@ -86,9 +91,12 @@ class Calls(Calling):
     def test_tests(self):
         low, high = num(1), num(2)
         so, no = ("less", low, high), ("less", high, low)
-        for test, told in ((("eq", low, low), True), (("eq", low, high), False), (so, True), (no, False), (("less", low, low), False),
-                           (("not", so), False), (("not", no), True), (("and", so, so), True), (("and", so, no), False),
-                           (("and", no, so), False), (("or", no, so), True), (("or", so, no), True), (("or", no, no), False),
+        for test, told in ((("eq", low, low), True), (("eq", low, high), False), (so, True), (no, False),
+                           (("less", low, low), False),
+                           (("not", so), False), (("not", no), True), (("and", so, so), True),
+                           (("and", so, no), False),
+                           (("and", no, so), False), (("or", no, so), True), (("or", so, no), True),
+                           (("or", no, no), False),
                            (("not", ("or", no, ("not", so))), True)):
             self.assertEqual(self.done((("if", test, (("set", ANN, num(1)),), ()),), (0, 0, 0))[0], (int(told), 0, 0))
             if told:
@@ -101,10 +109,12 @@ class Calls(Calling):
         less = ("sub", num(0), great)
         body = (("need", ("eq", ("sub", great, great), num(0)), "a"), ("need", ("less", less, num(0)), "b"),
                 ("need", ("less", num(9999), great), "c"), ("need", ("eq", ("add", less, great), num(0)), "d"),
-                ("set", ANN, ("add", ("sub", worth(ANN), num(50)), num(50))), ("set", BOB, ("mul", ("sub", num(2), num(5)), ("sub", num(0), num(4)))))
+                ("set", ANN, ("add", ("sub", worth(ANN), num(50)), num(50))),
+                ("set", BOB, ("mul", ("sub", num(2), num(5)), ("sub", num(0), num(4)))))
         self.assertEqual(self.done(body, (1, 0, 0)), ((1, 12, 0), (4, 5)))
         for number in (great, less, ("sub", num(0), num(1)), num(100), ("add", num(99), num(1)), num(9999)):
-            self.refused(BadWorth, "bob", (("set", ANN, num(1)), ("set", BOB, number), ("set", ANN, num(100))), (0, 0, 0))
+            self.refused(BadWorth, "bob", (("set", ANN, num(1)), ("set", BOB, number), ("set", ANN, num(100))),
+                         (0, 0, 0))
         for number in (0, 99):
             self.assertEqual(self.done((("set", BOB, num(number)),), (7, 7, 7))[0], (7, number, 7))
 
@@ -139,7 +149,8 @@ class Args(Calling):
         self.assertEqual(self.done((("set", ANN, N),), (0, 0, 0), (99,), (("n", "num"),))[0], (99, 0, 0))
         bank = plain_bank(cells=5, p=257)
         self.assertEqual(call(bank, self.book(PAY), (5, 0, 0), "pay", ("ann", "bob", 0)), (5, 0, 0))
-        self.assertEqual(what_of(self, Needed, call, bank, self.book(PAY), (5, 0, 0), "pay", ("ann", "bob", 256)), "short")
+        self.assertEqual(what_of(self, Needed, call, bank, self.book(PAY), (5, 0, 0), "pay", ("ann", "bob", 256)),
+                         "short")
         self.assertEqual(what_of(self, BadArgs, call, bank, self.book(PAY), (5, 0, 0), "pay", ("ann", "bob", 257)), 2)
 
     def test_what_are_no_args(self):
@@ -158,8 +169,10 @@ class Args(Calling):
         five = ("add", num(1), ("add", num(1), ("add", num(1), ("add", num(1), num(1)))))
         long = ("t", (), (("call", "low", (five,)),))
         for asked in BOTH:
-            for book, error, what in ((None, BadBook, -1), (((), (), ()), BadSchema, -1), (self.book(PAY, PAY), BadDeal, (1, (-1,))),
-                                      (self.book(used, long), TooLong, 1), (self.book(PAY, keeps=(None,)), BadKeep, 0)):
+            for book, error, what in ((None, BadBook, -1), (((), (), ()), BadSchema, -1),
+                                      (self.book(PAY, PAY), BadDeal, (1, (-1,))),
+                                      (self.book(used, long), TooLong, 1),
+                                      (self.book(PAY, keeps=(None,)), BadKeep, 0)):
                 self.assertEqual(what_of(self, error, asked, self.bank, book, None, None, None), what)
             book = self.book(PAY)
             for worths, what in ((None, -1), ((5, 0), -1), ((5, 0, 100), 2), ((True, 0, 0), 0)):
@@ -168,7 +181,8 @@ class Args(Calling):
                 self.assertEqual(what_of(self, NoDeal, asked, self.bank, book, (5, 0, 0), name, None), name)
             self.assertEqual(what_of(self, BadArgs, asked, self.bank, book, (0, 0, 0), "pay", ("ann", "bob")), -1)
             self.assertEqual(what_of(self, BadArgs, asked, self.bank, book, (0, 0, 0), "pay", ("ann", "bob", "n")), 2)
-            self.assertEqual(what_of(self, Needed, asked, self.bank, book, (0, 0, 0), "pay", ("ann", "bob", 1)), "short")
+            self.assertEqual(what_of(self, Needed, asked, self.bank, book, (0, 0, 0), "pay", ("ann", "bob", 1)),
+                             "short")
 
 
 class Drawn(Calling):

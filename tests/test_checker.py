@@ -49,7 +49,8 @@ class Books(Checking):
         self.right(GIVE, deal(NEED, SET, ("call", "give", (X, ONE))), keeps=(T, ("not", T)))
 
     def test_what_is_no_triple_of_tuples(self):
-        for thing in ODD + ((SMALL, ()), (SMALL, (), (), ()), [SMALL, (), ()], (SMALL, [], ()), (SMALL, (), []), "abc"):
+        for thing in ODD + ((SMALL, ()), (SMALL, (), (), ()), [SMALL, (), ()], (SMALL, [], ()), (SMALL, (), []),
+                            "abc"):
             self.assertEqual(what_of(self, BadBook, made_book, self.bank, thing), -1)
         for part in (None, True, "", "ab", 0, 10 ** 900):
             self.assertEqual(what_of(self, BadBook, made_book, self.bank, (SMALL, part, ())), -1)
@@ -149,20 +150,24 @@ class Statements(Checking):
 
     def test_sets(self):
         self.place(None, SET, ("set", ("arg", "a"), ("arg", "n")), ("set", ("rec", "z"), ("worth", ("arg", "a"))))
-        for rec in BAD + (DEEP, (), ("rec",), ("rec", "q"), ("rec", "a"), ("arg", "n"), ("arg", "x"), ("arg", "q"), ONE,
+        for rec in BAD + (DEEP, (), ("rec",), ("rec", "q"), ("rec", "a"), ("arg", "n"), ("arg", "x"), ("arg", "q"),
+                          ONE,
                           ("rec", "x", "y"), ("rec", ("x",)), ("worth", X), ["rec", "x"], ("arg", None), (None, "x")):
             self.place((0,), ("set", rec, ONE))
             self.place((0,), ("set", X, ("worth", rec)))
         self.place((0,), ("set", ("arg", "a"), ONE), params=())
 
     def test_numbers(self):
-        for number in (("num", 0), ("num", 9999), ("add", ONE, ONE), ("sub", ("worth", X), ("arg", "n")), ("mul", ONE, ONE)):
+        for number in (("num", 0), ("num", 9999), ("add", ONE, ONE), ("sub", ("worth", X), ("arg", "n")),
+                       ("mul", ONE, ONE)):
             self.place(None, ("set", X, number))
             self.place(None, ("need", ("less", ONE, number), "a"))
-        bad = BAD + (DEEP, (), ("num",), ("num", 1, 1), ("num", -1), ("num", 10000), ("num", 10 ** 900), ("num", True), ("num", None),
+        bad = BAD + (DEEP, (), ("num",), ("num", 1, 1), ("num", -1), ("num", 10000), ("num", 10 ** 900),
+                     ("num", True), ("num", None),
                      ("num", "1"), ("arg", "a"), ("arg", "x"), ("arg", "q"), ("arg", None), ("arg", ("n",)), X, T, 1,
                      ("add", ONE), ("add", ONE, ONE, ONE), ("div", ONE, ONE), ("add", ONE, None), ("add", None, ONE),
-                     ("mul", ONE, ("num", 10000)), ("worth", "x"), ("worth",), ("worth", X, X), (None, ONE, ONE), ["num", 1])
+                     ("mul", ONE, ("num", 10000)), ("worth", "x"), ("worth",), ("worth", X, X), (None, ONE, ONE),
+                     ["num", 1])
         for number in bad:
             self.place((1,), SET, ("set", X, number))
             self.place((1,), SET, ("need", ("less", ONE, number), "a"))
@@ -171,8 +176,10 @@ class Statements(Checking):
     def test_tests(self):
         for test in (T, ("less", ONE, ONE), ("not", T), ("and", T, T), ("or", ("not", T), T)):
             self.place(None, ("need", test, "a"), ("if", test, (), ()))
-        for test in BAD + (DEEP, (), ("eq",), ("eq", ONE), T + (ONE,), ("not",), ("not", T, T), ("not", ONE), ("and", T), ("or", T, T, T),
-                           ("xor", T, T), ("and", T, ONE), ("and", None, T), ("eq", T, T), ("less", T, ONE), (None, T), ((), ONE, ONE)):
+        for test in BAD + (DEEP, (), ("eq",), ("eq", ONE), T + (ONE,), ("not",), ("not", T, T), ("not", ONE),
+                           ("and", T), ("or", T, T, T),
+                           ("xor", T, T), ("and", T, ONE), ("and", None, T), ("eq", T, T), ("less", T, ONE),
+                           (None, T), ((), ONE, ONE)):
             self.place((0,), ("need", test, "a"))
             self.place((0,), ("if", test, (), ()))
 
@@ -194,8 +201,10 @@ class Statements(Checking):
 
     def test_calls(self):
         call = ("call", "give", (("arg", "a"), ("arg", "n")))
-        self.right(GIVE, deal(call, ("call", "give", (X, deepened("add", ONE, 5))), params=(("a", "rec"), ("n", "num"))))
-        for args in BAD + ((), (X,), (X, ONE, ONE), (ONE, X), (X, X), (ONE, ONE), (("rec", "q"), ONE), ("x", 1), [X, ONE],
+        self.right(GIVE,
+                   deal(call, ("call", "give", (X, deepened("add", ONE, 5))), params=(("a", "rec"), ("n", "num"))))
+        for args in BAD + ((), (X,), (X, ONE, ONE), (ONE, X), (X, X), (ONE, ONE), (("rec", "q"), ONE), ("x", 1),
+                           [X, ONE],
                            (("arg", "n"), ONE), (X, ("arg", "a")), (X, ("num", 10000)), (X, deepened("add", ONE, 6))):
             self.bad((1, (0,)), GIVE, deal(("call", "give", args), params=(("a", "rec"), ("n", "num"))))
         for name in BAD + ("t", "later", "x", "q", ("give",)):
@@ -247,7 +256,8 @@ class Places(Checking):
 
     def test_each_part_spoilt(self):
         """Whatever part of a deal is put in the place of another thing, its statement, or the deal, is told."""
-        body = (NEED, ("if", ("and", T, ("not", T)), (SET, ("call", "give", (("arg", "a"), ("add", ONE, ("arg", "n"))))),
+        body = (NEED,
+                ("if", ("and", T, ("not", T)), (SET, ("call", "give", (("arg", "a"), ("add", ONE, ("arg", "n"))))),
                        (("if", T, (), (("set", ("arg", "a"), ("worth", Y)),)),)), SET)
         book = (SMALL, (GIVE, ("t", (("a", "rec"), ("n", "num")), body)), (T,))
         made_book(self.bank, book)
@@ -291,8 +301,10 @@ class Keeps(Checking):
         self.right(keeps=(("eq", five, five),))
 
     def test_what_is_no_keep(self):
-        wrong = ODD + (ONE, X, NEED, ("eq", ("arg", "n"), ONE), ("eq", ("worth", ("arg", "a")), ONE), ("less", ("worth", ("rec", "q")), ONE),
-                       deepened("not", T, 6), ("eq", deepened("add", ONE, 6), ONE), ("eq", ONE, ("num", 10000)), ("not", None))
+        wrong = ODD + (ONE, X, NEED, ("eq", ("arg", "n"), ONE), ("eq", ("worth", ("arg", "a")), ONE),
+                       ("less", ("worth", ("rec", "q")), ONE),
+                       deepened("not", T, 6), ("eq", deepened("add", ONE, 6), ONE), ("eq", ONE, ("num", 10000)),
+                       ("not", None))
         for keep in wrong:
             self.assertEqual(what_of(self, BadKeep, made_book, self.bank, (SMALL, (GIVE,), (keep,))), 0)
             self.assertEqual(what_of(self, BadKeep, made_book, self.bank, (SMALL, (GIVE,), (T, T, keep, None))), 2)
@@ -341,8 +353,9 @@ class Lengths(Checking):
         for depth in range(1, 6):
             for level in range(1, 6):
                 low = deal(("set", X, deepened("add", ("arg", "n"), level)), name="low", params=params)
-                test = ("not", ("less", ONE, deepened("sub", ("arg", "n"), level)))
-                need = deal(("need", test, "q"), name="low", params=params)
+                inner = deepened("sub", ("arg", "n"), level)
+                test = ("or", T, ("not", ("less", ONE, inner)))
+                need = deal(("need", ("and", ("eq", inner, ONE), T), "q"), name="low", params=params)
                 branch = deal(("if", test, (), ()), name="low", params=params)
                 given = ("call", "low", (X, deepened("mul", ONE, depth), deepened("mul", ONE, 5)))
                 for callee in (low, need, branch):
@@ -377,8 +390,10 @@ class Lengths(Checking):
 class Wrong(Checking):
     def test_whatever_is_handed_in(self):
         for thing in ODD:
-            for book in (thing, (thing, (), ()), (SMALL, thing, ()), (SMALL, (), thing), (SMALL, (thing,), ()), (SMALL, (), (thing,)),
-                         (SMALL, (deal(thing),), ()), (SMALL, (("t", thing, ()),), ()), (SMALL, (("t", (), thing),), ())):
+            for book in (thing, (thing, (), ()), (SMALL, thing, ()), (SMALL, (), thing), (SMALL, (thing,), ()),
+                         (SMALL, (), (thing,)),
+                         (SMALL, (deal(thing),), ()), (SMALL, (("t", thing, ()),), ()),
+                         (SMALL, (("t", (), thing),), ())):
                 try:
                     self.assertEqual(made_book(self.bank, book), book)
                 except Refused as error:

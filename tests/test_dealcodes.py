@@ -116,7 +116,8 @@ class Codes(Dealing):
         d = ("add", ("worth", X), ("worth", X))
         self.assertEqual(code(self.bank, self.book(twice, both), "both"), (("set", X, d), ("set", X, d)) + STOP)
         need = ("need", U, "short")
-        self.assertEqual(code(self.bank, self.body(("if", T, (), (need,))), "t"), (("branch", T, 2), ("jump", 3), need) + STOP)
+        self.assertEqual(code(self.bank, self.body(("if", T, (), (need,))), "t"),
+                         (("branch", T, 2), ("jump", 3), need) + STOP)
         self.assertEqual(code(self.bank, self.book(PAY), "pay"), PAY[2] + STOP)
 
     def test_ifs(self):
@@ -126,7 +127,8 @@ class Codes(Dealing):
             ((s, ("if", T, (s, n), (n,)), s), (s, ("branch", T, 5), s, n, ("jump", 6), n, s)),
             ((("if", T, (("if", U, (s,), ()),), (n,)), n),
              (("branch", T, 5), ("branch", U, 4), s, ("jump", 4), ("jump", 6), n, n)),
-            ((("if", T, (), (("if", U, (), (s,)),)),), (("branch", T, 2), ("jump", 5), ("branch", U, 4), ("jump", 5), s)),
+            ((("if", T, (), (("if", U, (), (s,)),)),),
+             (("branch", T, 2), ("jump", 5), ("branch", U, 4), ("jump", 5), s)),
         ):
             self.assertEqual(code(self.bank, self.body(*body), "t"), rows + STOP)
 
@@ -134,12 +136,26 @@ class Codes(Dealing):
         inner = ("inner", (("a", "rec"), ("n", "num")), (("if", ("less", N, ("worth", A)), (("set", A, N),), ()),))
         # Names of params may be those of the deal that calls; each is put in once.
         outer = ("outer", (("n", "rec"), ("a", "num")), (
-            ("need", T, "q"), ("call", "inner", (N, ("add", ("arg", "a"), ("worth", N)))), ("call", "inner", (X, ("num", 7)))))
+            ("need", T, "q"), ("call", "inner", (N, ("add", ("arg", "a"), ("worth", N)))),
+            ("call", "inner", (X, ("num", 7)))))
         e = ("add", ("arg", "a"), ("worth", N))
         self.assertEqual(code(self.bank, self.book(inner, outer), "outer"), (
             ("need", T, "q"), ("branch", ("less", e, ("worth", N)), 4), ("set", N, e), ("jump", 4),
             ("branch", ("less", ("num", 7), ("worth", X)), 7), ("set", X, ("num", 7)), ("jump", 7)) + STOP)
-        self.assertEqual(code(self.bank, self.book(inner, outer), "inner"), plain_code((SCHEMA, (inner,), ()), "inner"))
+        self.assertEqual(code(self.bank, self.book(inner, outer), "inner"),
+                         plain_code((SCHEMA, (inner,), ()), "inner"))
+
+    def test_names_that_are_words_of_codes(self):
+        schema = ((("stop", 9), ("arg", 9)), (("set", 9), ("call", 9)), (("worth", 9),))
+        eq = ("eq", ("worth", ("arg", "branch")), ("worth", ("rec", "arg")))
+        inner = ("jump", (("branch", "rec"), ("need1", "num")), (
+            ("need", eq, "stop"), ("set", ("arg", "branch"), ("arg", "need1")), ("need", eq, "arg")))
+        outer = ("add", (("jump1", "rec"),), (("call", "jump", (("rec", "set"), ("worth", ("arg", "jump1")))),
+                                              ("call", "jump", (("arg", "jump1"), ("num", 5)))))
+        book = made_book(self.bank, (schema, (inner, outer), ()))
+        for name in ("jump", "add"):
+            self.assertEqual(code(self.bank, book, name), plain_code(book, name))
+        self.assertEqual((most(self.bank, book, "add"), reach(self.bank, book, "add")), (2, None))
 
     def test_a_code_of_200_rows(self):
         deals = (("a", (), (("set", X, ONE),) * 20), ("b", (), (("call", "a", ()),) * 9 + (("set", Y, ONE),) * 19))
@@ -195,7 +211,8 @@ class Setting(Dealing):
         # A param that is only read is none that is set.
         book = self.body(("need", ("eq", ("worth", A), ONE), "q"), ("set", X, ("worth", B)), params=params)
         self.assertEqual(self.told(book, "t"), (1, (1,), "whole"))
-        calling = ("u", (("c", "rec"),), (("call", "pay", (X, Y, ONE)), ("call", "pay", (X, X, ("worth", ("arg", "c"))))))
+        calling = ("u", (("c", "rec"),),
+                   (("call", "pay", (X, Y, ONE)), ("call", "pay", (X, X, ("worth", ("arg", "c"))))))
         self.assertEqual(self.told(self.book(PAY, calling), "u"), (2, (1,), "whole"))
         passing = ("u", (("c", "rec"),), (("call", "pay", (("arg", "c"), ("arg", "c"), ONE)),))
         self.assertEqual(self.told(self.book(PAY, passing), "u"), (1, None, "by call"))
@@ -220,7 +237,8 @@ class Setting(Dealing):
                 many = min(4, max(len(lot) for lot in ways(rows)))
                 recs = {row[1] for row in rows if row[0] == "set"}
                 homes = {"x": 1, "y": 1, "z": 2, "w": 2, "v": 3}
-                told = None if any(word == "arg" for word, _ in recs) else tuple(sorted({homes[rec] for _, rec in recs}))
+                told = None if any(word == "arg" for word,
+                                   _ in recs) else tuple(sorted({homes[rec] for _, rec in recs}))
                 sort = "whole" if many <= 2 and told is not None and len(told) < 2 else "by call"
                 self.assertEqual(self.told(book, name), (many, told, sort))
                 seen.add((many, sort, told is None))
@@ -293,7 +311,8 @@ class Refusing(Dealing):
         five = deepened("add", ONE, 5)
         used = ("low", (("n", "num"),), (("set", X, ("add", N, ONE)),))
         for call in ASKED:
-            for book, error, what in ((None, BadBook, -1), (((), (), ()), BadSchema, -1), (self.book(PAY, PAY), BadDeal, (1, (-1,))),
+            for book, error, what in ((None, BadBook, -1), (((), (), ()), BadSchema, -1),
+                                      (self.book(PAY, PAY), BadDeal, (1, (-1,))),
                                       (self.book(used, ("t", (), (("call", "low", (five,)),))), TooLong, 1),
                                       ((SCHEMA, (PAY,), (None,)), BadKeep, 0)):
                 self.assertEqual(what_of(self, error, call, self.bank, book, "none"), what)

@@ -1,11 +1,14 @@
 """Steps of calls, what is left of them, and houses that are opened ([51] to [53])."""
 
+import unittest
+
 from helper import ODD, Refusing, put_row, seen, striped, what_of
 from twicemany.banks import Bank
 from twicemany.bookreader import read_book
 from twicemany.calls import call
 from twicemany.dealing import House, rest, steps
-from twicemany.errors import (BadArgs, BadBook, BadDeal, BadKeep, BadPlace, BadSchema, BadWorth, BadWorths, Blind, Broken, Needed, NoDeal,
+from twicemany.errors import (BadArgs, BadBook, BadDeal, BadKeep, BadPlace, BadSchema, BadWorth, BadWorths, Blind,
+                              Broken, Needed, NoDeal,
                               Spoilt, TooLong, Unwhole)
 from twicemany.finder import table_at
 from twicemany.houses import do_steps, lay, worths_of
@@ -18,7 +21,8 @@ PAY = ("pay", (("a", "rec"), ("b", "rec"), ("n", "num")), (
     ("set", A, ("sub", ("worth", A), N)),
     ("set", B, ("add", ("worth", B), N))))
 BOOK = (SCHEMA, (PAY,), ())
-LONG = ((0, ((1, 1),)), (0, ((2, 0),)), (0, ((3, 2),)), (0, ((4, 3),)), (0, ((0, 2),)), (1, ((0, 2), (1, 2))), (0, ((0, 3),)),
+LONG = ((0, ((1, 1),)), (0, ((2, 0),)), (0, ((3, 2),)), (0, ((4, 3),)), (0, ((0, 2),)), (1, ((0, 2), (1, 2))),
+        (0, ((0, 3),)),
         (2, ((0, 3), (1, 3))), (0, ((0, 4),)), (1, ((0, 0),)), (2, ((0, 0),)), (0, ((0, 0),)))
 TEXTS = (
     "row ann 101, bob 101, cat 101; row shop 101; row till 300, box 50",
@@ -30,13 +34,15 @@ TEXTS = (
     " need not till = 13 else odd; box := box + 1; a := till }",
     "deal two(num n) { pay(ann, bob, n); pay(bob, shop, n - 1) }",
     "deal none() { need ann = ann else a; if ann = 0 {} else { need bob < 200 else b } }",
+    "deal start(num n) { ann := n; shop := n + 1 }",
     "keep shop < 100",
 )
 
 
 def shape_of(n=5, k=2, manner=0, wide=1, e=0):
     """A shape that stands."""
-    p, c, number = {(5, 2, 0, 0): (1009, 4, 2), (5, 2, 1, 0): (1009, 3, 0), (5, 2, 0, 1): (1000003, 5, 0), (3, 2, 0, 1): (1009, 5, 4),
+    p, c, number = {(5, 2, 0, 0): (1009, 4, 2), (5, 2, 1, 0): (1009, 3, 0), (5, 2, 0, 1): (1000003, 5, 0),
+                    (3, 2, 0, 1): (1009, 5, 4),
                     (3, 3, 1, 0): (1009, 5, 0)}[n, k, manner, e]
     return p, wide, n, k, e, manner, table_at(p, n, c, number)
 
@@ -64,7 +70,8 @@ class Steps(Refusing):
     def test_a_call_that_changes_nothing(self):
         book = read()
         bank = bank_of(book, (5, 6, 7, 8, 9, 10))
-        for deal, args in (("pay", ("ann", "ann", 5)), ("pay", ("ann", "shop", 0)), ("same", ("till",)), ("none", ())):
+        for deal, args in (("pay", ("ann", "ann", 5)), ("pay", ("ann", "shop", 0)), ("same", ("till",)),
+                           ("none", ())):
             self.assertEqual(steps(bank, book, deal, args), ())
         bank = bank_of(book, (1, 2, 3, 8, 9, 10))
         self.assertEqual(steps(bank, book, "three", ()), ())
@@ -83,7 +90,8 @@ class Steps(Refusing):
         book = read()
         bank = bank_of(book, (5, 6, 7, 8, 9, 10))
         self.assertEqual(steps(bank, book, "three", ()), (
-            (0, ((1, 3),)), (0, ((0, 1),)), (1, ((0, 1), (1, 1))), (0, ((0, 2),)), (1, ((0, 2), (2, 2))), (0, ((0, 3),)),
+            (0, ((1, 3),)), (0, ((0, 1),)), (1, ((0, 1), (1, 1))), (0, ((0, 2),)), (1, ((0, 2), (2, 2))),
+            (0, ((0, 3),)),
             (1, ((0, 3), (3, 3))), (0, ((0, 4),)), (1, ((0, 0),)), (0, ((0, 0),))))
         # A greater most takes three.
         bank = Bank(Rack((1009, 1, 8, 3, 0, 0, table_at(1009, 8, 2, 0)), 4))
@@ -92,15 +100,17 @@ class Steps(Refusing):
     def test_long_calls(self):
         book = read()
         bank = bank_of(book, (5, 6, 7, 8, 9, 10))
-        # A record that is set twice, and read when it is set: the rows of the code are 0 to 3.
-        self.assertEqual(steps(bank, book, "back", ("ann",))[:3], ((2, ((1, 5),)),))
+        # Bob is set twice, and read behind it; row 3 of the code is the need of the second call.
         self.assertEqual(steps(bank, book, "two", (4,)), (
-            (0, ((1, 6),)), (0, ((2, 4),)), (0, ((0, 2),)), (1, ((0, 2), (1, 1))), (0, ((0, 3),)), (1, ((0, 3), (2, 10))), (0, ((0, 5),)),
-            (1, ((0, 5), (2, 7))), (0, ((0, 6),)), (2, ((0, 6), (1, 11))), (0, ((0, 7),)), (1, ((0, 0),)), (2, ((0, 0),)), (0, ((0, 0),))))
-        # The way of grow: row 0, branch 1, 2, branch 3, 4, jump 5, jump 6, (shop is row 7), need 8, 9, 10, stop 11.
+            (0, ((1, 6),)), (0, ((2, 4),)), (0, ((0, 2),)), (1, ((0, 2), (1, 1))), (0, ((0, 3),)),
+            (1, ((0, 3), (2, 10))), (0, ((0, 5),)),
+            (1, ((0, 5), (2, 7))), (0, ((0, 6),)), (2, ((0, 6), (1, 11))), (0, ((0, 7),)), (1, ((0, 0),)),
+            (2, ((0, 0),)), (0, ((0, 0),))))
+        # The code of grow: cat 0, branch 1, till 2, branch 3, box 4, jumps 5 and 6, shop 7, need 8, box 9, cat 10.
         self.assertEqual(steps(bank, book, "grow", ("cat", 7)), (
             (0, ((1, 5),)), (0, ((2, 2),)), (0, ((3, 7),)), (0, ((0, 1),)),
-            (1, ((0, 1), (3, 14))), (0, ((0, 3),)), (3, ((0, 3), (1, 14))), (0, ((0, 5),)), (3, ((0, 5), (2, 14))), (0, ((0, 10),)),
+            (1, ((0, 1), (3, 14))), (0, ((0, 3),)), (3, ((0, 3), (1, 14))), (0, ((0, 5),)), (3, ((0, 5), (2, 14))),
+            (0, ((0, 10),)),
             (3, ((0, 10), (2, 15))), (0, ((0, 11),)), (1, ((0, 11), (3, 14))), (0, ((0, 12),)),
             (1, ((0, 0),)), (3, ((0, 0),)), (0, ((0, 0),))))
         self.assertEqual(steps(bank, book, "grow", ("cat", 60)), (
@@ -118,7 +128,8 @@ class Steps(Refusing):
         book = read()
         for manner in (0, 1):
             for wide in (1, 2):
-                for deal, args in (("two", (4,)), ("grow", ("cat", 7)), ("grow", ("bob", 60)), ("three", ()), ("pay", ("box", "ann", 10))):
+                for deal, args in (("two", (4,)), ("grow", ("cat", 7)), ("grow", ("bob", 60)), ("three", ()),
+                                   ("pay", ("box", "ann", 10)), ("start", (3,))):
                     bank = bank_of(book, (5, 6, 7, 8, 9, 10), manner=manner, wide=wide)
                     behind = call(bank, book, (5, 6, 7, 8, 9, 10), deal, args)
                     do_steps(bank, steps(bank, book, deal, args))
@@ -131,7 +142,8 @@ class Steps(Refusing):
         low = ("low", (("n", "num"),), (("set", ("rec", "ann"), ("add", N, N)),))
         five = ("add", N, ("add", N, ("add", N, ("add", N, N))))
         long = ("long", (("n", "num"),), (("call", "low", (five,)),))
-        for book, error, what in ((None, BadBook, -1), (((), (), ()), BadSchema, -1), ((SCHEMA, (PAY, None), ()), BadDeal, (1, (-1,))),
+        for book, error, what in ((None, BadBook, -1), (((), (), ()), BadSchema, -1),
+                                  ((SCHEMA, (PAY, None), ()), BadDeal, (1, (-1,))),
                                   ((SCHEMA, (low, long), ()), TooLong, 1), ((SCHEMA, (PAY,), (None,)), BadKeep, 0)):
             self.assertEqual(self.refused(bank.rack, error, steps, bank, book, None, None), what)
             self.assertEqual(self.refused(bank.rack, error, rest, bank, book), what)
@@ -169,7 +181,8 @@ class Rest(Refusing):
     def test_behind_each_step(self):
         book = read()
         for manner in (0, 1):
-            for deal, args in (("two", (4,)), ("grow", ("cat", 7)), ("grow", ("bob", 60)), ("three", ()), ("pay", ("box", "ann", 10))):
+            for deal, args in (("two", (4,)), ("grow", ("cat", 7)), ("grow", ("bob", 60)), ("three", ()),
+                               ("pay", ("box", "ann", 10)), ("start", (3,))):
                 told = steps(bank_of(book, (5, 6, 7, 8, 9, 10)), book, deal, args)
                 first = [row for row, _ in enumerate(told) if told[row][1][0][0] == 0][0]
                 for many in range(len(told) + 1):
@@ -191,18 +204,28 @@ class Rest(Refusing):
             (10, (0, 5, 10), 3, ((0, ((0, 11),)), (1, ((0, 11), (3, 9))), (0, ((0, 12),)),
                                  (1, ((0, 0),)), (2, ((0, 0),)), (3, ((0, 0),)), (0, ((0, 0),)))),
             (11, (11, 0, 0), 3, ((0, ((0, 12),)), (1, ((0, 0),)), (0, ((0, 0),)))),
-            (11, (10, 11, 11), 3, ((1, ((0, 11), (3, 9))), (0, ((0, 12),)), (1, ((0, 0),)), (2, ((0, 0),)), (3, ((0, 0),)), (0, ((0, 0),)))),
+            (11, (10, 11, 11), 3,
+             ((1, ((0, 11), (3, 9))), (0, ((0, 12),)), (1, ((0, 0),)), (2, ((0, 0),)), (3, ((0, 0),)),
+              (0, ((0, 0),)))),
             (12, (0, 0, 0), 3, ((0, ((0, 0),)),)),
             (12, (4, 0, 1008), 3, ((1, ((0, 0),)), (3, ((0, 0),)), (0, ((0, 0),)))),
             # Row 0 sets cat; its number tells which branch comes.
-            (1, (1, 0, 0), 48, ((0, ((0, 3),)), (3, ((0, 3), (1, 48))), (0, ((0, 5),)), (3, ((0, 5), (2, 48))), (0, ((0, 10),)))),
-            (1, (1, 0, 0), 50, ((0, ((0, 8),)), (2, ((0, 8), (1, 50))), (0, ((0, 10),)), (3, ((0, 10), (2, 11))), (0, ((0, 11),)))),
-            (1, (0, 0, 0), 43, ((1, ((0, 1), (3, 50))), (0, ((0, 8),)), (2, ((0, 8), (1, 50))), (0, ((0, 10),)), (3, ((0, 10), (2, 11))))),
+            (1, (1, 0, 0), 48,
+             ((0, ((0, 3),)), (3, ((0, 3), (1, 48))), (0, ((0, 5),)), (3, ((0, 5), (2, 48))), (0, ((0, 10),)))),
+            (1, (1, 0, 0), 50,
+             ((0, ((0, 8),)), (2, ((0, 8), (1, 50))), (0, ((0, 10),)), (3, ((0, 10), (2, 11))), (0, ((0, 11),)))),
+            (1, (0, 0, 0), 43,
+             ((1, ((0, 1), (3, 50))), (0, ((0, 8),)), (2, ((0, 8), (1, 50))), (0, ((0, 10),)),
+              (3, ((0, 10), (2, 11))))),
             # Behind this set no other one comes but in the branch; till would be 13, which the need that is not asked refuses.
-            (1, (0, 0, 0), 6, ((1, ((0, 1), (3, 13))), (0, ((0, 3),)), (3, ((0, 3), (1, 13))), (0, ((0, 5),)), (3, ((0, 5), (2, 13))))),
+            (1, (0, 0, 0), 6,
+             ((1, ((0, 1), (3, 13))), (0, ((0, 3),)), (3, ((0, 3), (1, 13))), (0, ((0, 5),)),
+              (3, ((0, 5), (2, 13))))),
         ):
             bank = bank_of(book, (5, 6, cat, 8, 9, 10))
-            do_steps(bank, [(0, ((0, place), (1, 5))), (0, ((2, 2), (3, 7)))] + [(at + 1, ((0, mark),)) for at, mark in enumerate(marks)])
+            do_steps(bank,
+                     [(0, ((0, place), (1, 5))), (0, ((2, 2), (3, 7)))] + [(at + 1, ((0, mark),)) for at,
+                                                                           mark in enumerate(marks)])
             found = rest(bank, book)
             self.assertEqual(found if place > 9 else found[:5], told, (place, marks, cat))
 
@@ -230,7 +253,7 @@ class Rest(Refusing):
 
     def test_what_no_call_can_have_written(self):
         book = read()
-        for deal in (0, 8, 9, 1008):
+        for deal in (0, 9, 10, 1008):
             self.wrong(1, book, (deal, 0, 0, 0))
         for arg in (6, 7, 1008):
             self.wrong(1, book, (5, arg, 7))
@@ -250,14 +273,16 @@ class Rest(Refusing):
         self.wrong(1, book, (5, 2, 7), [(3, ((2, 49),)), (1, ((3, 50),))])
         # With the MARK the set itself is done already.
         bank = bank_of(book, (5, 6, 7, 8, 9, 10))
-        do_steps(bank, tuple((0, ((cell, number),)) for cell, number in enumerate((3, 1, 0, 1, 95))) + ((1, ((0, 3),)),))
+        do_steps(bank,
+                 tuple((0, ((cell, number),)) for cell, number in enumerate((3, 1, 0, 1, 95))) + ((1, ((0, 3),)),))
         self.assertEqual(rest(bank, book), ((0, ((0, 4),)), (1, ((0, 0),)), (0, ((0, 0),))))
 
     def test_records_are_read_as_they_lie(self):
         # Ann has more than her size lets her, which is only read.
         bank = bank_of()
         do_steps(bank, ((1, ((1, 150),)), (0, ((1, 1), (2, 0))), (0, ((3, 2), (4, 99))), (0, ((0, 2),))))
-        self.assertEqual(rest(bank, BOOK)[:4], ((1, ((0, 2), (1, 51))), (0, ((0, 3),)), (2, ((0, 3), (1, 99))), (0, ((0, 4),))))
+        self.assertEqual(rest(bank, BOOK)[:4],
+                         ((1, ((0, 2), (1, 51))), (0, ((0, 3),)), (2, ((0, 3), (1, 99))), (0, ((0, 4),))))
         self.assertEqual(len(rest(bank, BOOK)), 7)
 
     def test_rows_that_are_not_whole(self):
@@ -305,7 +330,8 @@ class Houses(Refusing):
                     continue
                 bank.stop(told, 0, came)
                 House(bank, BOOK)
-                self.assertIn(worths_of(bank, SCHEMA), ((5, 0, 0), (2, 0, 3)) if many == 4 else ((5, 0, 0) if many < 4 else (2, 0, 3),))
+                self.assertIn(worths_of(bank, SCHEMA),
+                              ((5, 0, 0), (2, 0, 3)) if many == 4 else ((5, 0, 0) if many < 4 else (2, 0, 3),))
                 for row in range(5):
                     self.assertEqual(bank.rack.left(row), striped(bank.rack.shape, bank.row(row)))
 
@@ -368,7 +394,8 @@ class Houses(Refusing):
     def test_a_call_of_a_deal_without_args_and_one_with_all(self):
         book = read()
         bank = bank_of(book, (5, 6, 7, 8, 9, 10))
-        for deal, args, worths in (("three", (), (1, 2, 3, 8, 9, 10)), ("pay", ("box", "cat", 9), (1, 2, 12, 8, 9, 1))):
+        for deal, args, worths in (("three", (), (1, 2, 3, 8, 9, 10)),
+                                   ("pay", ("box", "cat", 9), (1, 2, 12, 8, 9, 1))):
             told = steps(bank, book, deal, args)
             do_steps(bank, told[:len(told) - 7])
             House(bank, book)
@@ -380,9 +407,5 @@ class Houses(Refusing):
         self.assertEqual(what_of(self, BadPlace, House, bank, BOOK), 5)
 
 
-del Refusing
-
-
 if __name__ == "__main__":
-    import unittest
     unittest.main()

@@ -71,7 +71,7 @@ def numbers_at(statement, wanted, known):
     # A param that stands in no number of the code brings nothing into it.
     _, deal, args = statement
     levels = known[deal]
-    return [(arg, levels[name]) for (name, sort), arg in zip(wanted[deal], args) if sort == "num" and name in levels]
+    return [(arg, levels[name]) for (name, _), arg in zip(wanted[deal], args) if name in levels]
 
 
 def note_levels(levels, number, level):
