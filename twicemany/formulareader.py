@@ -2,7 +2,7 @@
 
 from twicemany.errors import BadNumber, NoName, TooDeep
 from twicemany.formulas import DEEPEST, GREATEST_NUM
-from twicemany.texts import is_figures
+from twicemany.texts import tells_number
 
 WORDS = {"+": "add", "-": "sub", "*": "mul", "=": "eq", "<": "less", "and": "and", "or": "or"}
 
@@ -58,7 +58,7 @@ def atom_told(words, scope):
         told = sum_told(words, scope)
         words.take_closing(")")
         return told
-    if is_figures(word):
+    if tells_number(word):
         number = words.take_number()
         if number > GREATEST_NUM:
             raise BadNumber(place)

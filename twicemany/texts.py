@@ -41,7 +41,7 @@ def word_end(text, at):
     return at + 2 if text[at:at + 2] == ":=" else at + 1
 
 
-def is_figures(word):
+def tells_number(word):
     """Whether a word is a figure word."""
     if not 1 <= len(word) <= MOST_FIGURES or not all([sign in FIGURES for sign in word]):
         return False
@@ -89,7 +89,7 @@ class Words:
     def take_number(self):
         """Go on behind a figure word; return its number."""
         word = self.word()
-        if not is_figures(word):
+        if not tells_number(word):
             raise BadText(self.place())
         self.go_on()
         return int(word)
